@@ -1,0 +1,1 @@
+"""Tacthouse: voices by clocks, written short."""

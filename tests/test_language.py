@@ -1,0 +1,52 @@
+"""The files of the package keep to LANGUAGE.md, as far as a script can see it."""
+
+import ast
+import unittest
+
+from tests import language
+
+
+class Language(unittest.TestCase):
+    def test_no_faults(self):
+        self.assertEqual(language.faults(), [])
+
+    def test_faults_are_seen(self):
+        """A check that sees nothing would be no check."""
+        samples = {
+            "import os\n": "L16", "from os import path\n": "L2", "A = [x for x in (1,)]\n": "L3",
+            "def f(x):\n    return x / 2\n": "L7", "def f(x):\n    return 2 ** x\n": "L27",
+            "def f(x):\n    return x is 3\n": "L20", "def f(hash):\n    return hash\n": "L15",
+            "def f(x):\n    global A\n": "L6", "def f(x):\n    return any(y for y in x)\n": "L7",
+            "def f(x):\n    return {1, 2, 3}\n": "L13", "def f(x):\n    for y in x:\n        x.append(y)\n": "L23",
+            "def f(x):\n" + "    x += 1\n" * 40: "L10", "A = '" + "a" * 120 + "'\n": "L10", "A = 'type'\n": "L17",
+            "def f(x):\n    x.mro = 1\n": "L17", "def f(x):\n    return x.format()\n": "L17",
+            "def f(x):\n    return '%'\n": "L27", "def f(x):\n    return zip(x, x)\n": "L23",
+            "def f(x):\n    y = set()\n    return y\n": "L24", "def f(__x):\n    return 1\n": "L12",
+            "class A:\n    def a(self):\n        self.a = 1\n": "L18", "def f(x):\n    raise x.wrong()\n": "L19",
+        }
+        own = {"methods": set(), "attributes": {"a"}}
+        for text, rule in samples.items():
+            found = language.Checker("sample", text, own).run()
+            self.assertTrue(any(f": {rule}: " in fault for fault in found), (text, found))
+
+    def test_the_interface_is_defined_where_it_is_listed(self):
+        listed = {
+            "tacthouse.scores": "need_score(thing) voices_of(score) sign_lengths(score) asked_signs(score) unfolded(score)",
+            "tacthouse.sounds": "note_count(score,voice) begin_of(score,voice,number) next_begin(score,voice,tick)"
+                                " sound_at(score,voice,tick) heard_all(score,tick) sounding(score,voice)",
+            "tacthouse.alike": "are_alike(one,other) first_parting(one,other) alike_paper(one,other)"
+                               " check_alike(one,other,paper)",
+            "tacthouse.rings": "is_rhythm(thing) turned(rhythm,number) mirrored(rhythm) left_of(rhythm) gaps_of(rhythm)"
+                               " form_of(rhythm) content_of(rhythm) period_of(rhythm) even_rhythm(beats,strokes)"
+                               " is_even(rhythm) even_paper(rhythm) check_even(rhythm,paper)",
+        }
+        for module, _, text in language.sources():
+            heads = {node.name: [one.arg for one in node.args.args] for node in ast.parse(text).body
+                     if isinstance(node, ast.FunctionDef)}
+            for head in listed.get(module, "").split():
+                name, parameters = head[:-1].split("(")
+                self.assertEqual(heads.get(name), parameters.split(","), name)
+
+
+if __name__ == "__main__":
+    unittest.main()
