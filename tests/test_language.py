@@ -39,11 +39,26 @@ class Language(unittest.TestCase):
             "tacthouse.rings": "is_rhythm(thing) turned(rhythm,number) mirrored(rhythm) left_of(rhythm) gaps_of(rhythm)"
                                " form_of(rhythm) content_of(rhythm) period_of(rhythm) even_rhythm(beats,strokes)"
                                " is_even(rhythm) even_paper(rhythm) check_even(rhythm,paper)",
+            "tacthouse.entries": "are_entries(rhythm,thing) fair_floors(rhythm,prime)"
+                                 " is_fair_pair(rhythm,prime,floor,other,far) entries_of(rhythm) entries_paper(rhythm)"
+                                 " check_entries(rhythm,paper)",
+            "tacthouse.laid": "laid(score,voice,beats) strikes_once(score,voice,beats)",
+            "tacthouse.tempos": "need_tempo(thing) tempo_at(tempo,x) plain_tempo(tempo) tempo_behind(tempo,other)"
+                                " tempo_back(tempo) is_never_ahead(tempo,other) ahead_paper(tempo,other)"
+                                " check_ahead(tempo,other,paper)",
+            "tacthouse.timed": "begin_at(score,voice,number,tempo) heard_at(score,second,tempo)"
+                               " nearest_gap(score,voice,tempo) widest_gap(score,voice,tempo) paced_length(score,paces)"
+                               " paced_begin(score,voice,number,paces)",
+            "tacthouse.logs": "need_log(thing) log_moments(log) log_steps(log) do_fit(log,times) can_be(log)"
+                              " log_paper(log) check_log(log,paper) most_behind(log,one,far) most_paper(log,one,far)"
+                              " check_most(log,one,far,paper)",
         }
-        for module, _, text in language.sources():
+        seen = {module: text for module, _, text in language.sources()}
+        for module in listed:
+            text = seen[module]
             heads = {node.name: [one.arg for one in node.args.args] for node in ast.parse(text).body
                      if isinstance(node, ast.FunctionDef)}
-            for head in listed.get(module, "").split():
+            for head in listed[module].split():
                 name, parameters = head[:-1].split("(")
                 self.assertEqual(heads.get(name), parameters.split(","), name)
 
