@@ -17,6 +17,8 @@ BUILTINS = set("""len range enumerate zip min max sum abs sorted reversed int st
 isinstance ord repr any all divmod pow getattr hasattr setattr iter next map type super property staticmethod classmethod
 Exception ValueError TypeError KeyError IndexError LookupError ZeroDivisionError ArithmeticError OverflowError RuntimeError
 NotImplementedError AttributeError StopIteration NotImplemented True False None""".split())
+# A doctest leaves its last answer as a builtin _.
+PYTHONS = set(dir(builtins)) - {"_"}
 METHODS = set("""append clear copy count endswith extend find get index insert isalnum isalpha isdigit islower isspace
 isupper items join keys ljust lower lstrip partition pop remove replace reverse rfind rjust rpartition rsplit rstrip
 setdefault split splitlines startswith strip update upper values zfill bit_length add discard title capitalize swapcase
@@ -223,7 +225,7 @@ class Checker:
 
     def binding(self, node, name, own=False):
         """A name that is bound: a variable, a parameter, a function."""
-        if name in dir(builtins) or name in BARRED_NAMES or name in BARRED:
+        if name in PYTHONS or name in BARRED_NAMES or name in BARRED:
             if not (own and isinstance(getattr(node, "above", None), ast.ClassDef) and name not in BARRED):
                 self.fault("L15", node, name)
         if not own and (name in self.imported or name in self.classes or name in self.outer):
@@ -237,7 +239,7 @@ class Checker:
         if isinstance(node, ast.Name) and isinstance(node.ctx, ast.Load):
             if node.id == "_":
                 self.fault("L12", node, "_ is read")
-            if node.id in dir(builtins) and node.id not in BUILTINS:
+            if node.id in PYTHONS and node.id not in BUILTINS:
                 self.fault("L8", node, node.id)
         if isinstance(node, ast.Attribute):
             if node.attr in BARRED or node.attr.startswith("__") or node.attr in ("encode", "decode", "format", "sort"):
@@ -346,7 +348,7 @@ class Checker:
         if isinstance(node, ast.ExceptHandler):
             names = [node.type] if not isinstance(node.type, ast.Tuple) else node.type.elts
             for one in names:
-                if one is None or ast.unparse(one) in dir(builtins) and ast.unparse(one) not in CAUGHT:
+                if one is None or ast.unparse(one) in PYTHONS and ast.unparse(one) not in CAUGHT:
                     self.fault("L19", node, "handler")
         if isinstance(node, ast.Raise) and node.exc is not None:
             if not (isinstance(node.exc, ast.Call) and isinstance(node.exc.func, ast.Name)):
@@ -382,7 +384,7 @@ def faults():
         name = os.path.basename(path)
         if not re.fullmatch(r"[a-z0-9_]+\.py", name):
             found.append(f"{path}: L1: name")
-        if name[:-3] in BARRED_FILES or name[:-3] in dir(builtins) or name.startswith(("test_", "law_")):
+        if name[:-3] in BARRED_FILES or name[:-3] in PYTHONS or name.startswith(("test_", "law_")):
             found.append(f"{path}: L14: name")
         tree = ast.parse(text)
         own[module] = {node.name for node in tree.body if isinstance(node, (ast.FunctionDef, ast.ClassDef))}
