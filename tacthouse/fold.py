@@ -77,7 +77,7 @@ class Fold:
 
     def settle(self):
         """Puts what rows that have become short read as where they are named."""
-        short, before = {}, self.order
+        short, before = {}, list(self.order)
         self.order = []
         for symbol in before:
             row = self.rows[symbol]
