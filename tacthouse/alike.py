@@ -31,7 +31,7 @@ def first_parting(one, other):
 
 def shared_voices(one, other):
     """The numbers of the VOICES of SCORES with as many; none of others."""
-    return range(voice_count(one) if voice_count(one) == voice_count(other) else 0)
+    return list(range(voice_count(one))) if voice_count(one) == voice_count(other) else []
 
 
 def tick_of_voice(one, other, voice):

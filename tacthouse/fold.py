@@ -66,9 +66,9 @@ class Fold:
         return self.rows[self.tops[0]] == self.rows[self.tops[1]]
 
     def repeated(self, head, body, many, tail):
-        """The row of letters head, body so many times, tail, and its TURNS."""
+        """The row of letters head, body (at least one) so many times, tail, and its TURNS."""
         row = list(head)
-        if not body or many == 1 or len(body) == 1:
+        if many == 1 or len(body) == 1:
             push_all(row, [(symbol, count * many) for symbol, count in body])
             push_all(row, tail)
             return row, 1

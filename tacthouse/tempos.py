@@ -81,7 +81,8 @@ def one_behind(tempo, other):
             number += 1
             left = other[number][0]
         pairs.append((None if reach is None else divided(reach, rate), product_of(rate, other[number][1])))
-        if left is not None and reach is not None:
+        # Only what is without an end reaches beyond all pairs of the other one.
+        if left is not None:
             left = minus(left, reach)
             if left == NOUGHT:
                 number += 1

@@ -53,7 +53,7 @@ def nearest_gap(score, voice, tempo):
     """The least GAP and the number of the first such one, or None."""
     best = None
     for least, _ in extreme_gaps(score, voice, tempo):
-        if best is None or is_less(least[0], best[0]) or is_same_sooner(least, best):
+        if best is None or is_less(least[0], best[0]):
             best = least
     return best
 
@@ -62,18 +62,16 @@ def widest_gap(score, voice, tempo):
     """The greatest GAP and the number of the first such one, or None."""
     best = None
     for _, most in extreme_gaps(score, voice, tempo):
-        if best is None or is_less(best[0], most[0]) or is_same_sooner(most, best):
+        if best is None or is_less(best[0], most[0]):
             best = most
     return best
 
 
-def is_same_sooner(one, best):
-    """Whether a GAP with its number is as great as the best one so far, and has a lesser number."""
-    return one[0] == best[0] and one[1] < best[1]
-
-
 def extreme_gaps(score, voice, tempo):
-    """Pairs of (GAP, number), among which the nearest one is first in a pair, and the widest one second."""
+    """Pairs of two (GAP, number), for one stretch of ticks behind another the nearest GAP and the widest one.
+
+    Such a stretch is one pair of the TEMPO, in which SECONDS go as ticks do; or one GAP that goes over a bend.
+    """
     need_both(score, voice)
     need_tempo(tempo)
     reading, notes = Reading(score, voice), Notes(score, voice)
@@ -87,7 +85,7 @@ def extreme_gaps(score, voice, tempo):
             found.append(tuple([(product_of(rate, whole(gap)), low + number) for gap, number in ends]))
         if bend is not None:
             low = reading.notes_ahead(ceiling_of(bend))
-            if 0 < low < total and low == high:
+            if 0 < low < total:
                 gap = (gap_over(reading, tempo, low - 1), low - 1)
                 found.append((gap, gap))
     return found

@@ -38,8 +38,8 @@ def block_events(score, varied, voice):
     return events[::-1] if is_back else events
 
 
-def asked_of(score, most=MOST_ASKED):
-    """A dict of all VARIED SIGNS that are asked for, with how often each is used; None if there are more than most."""
+def asked_of(score):
+    """A dict of all VARIED SIGNS that are asked for, with how often each is used; None if there are too many."""
     levels = [{} for _ in score]
     levels[-1][top_of(score)] = 1
     asked = {}
@@ -50,7 +50,7 @@ def asked_of(score, most=MOST_ASKED):
             for part, many in parts_of(score, varied):
                 below = levels[part[0]]
                 below[part] = below.get(part, 0) + often * many
-        if len(asked) > most:
+        if len(asked) > MOST_ASKED:
             return None
     return asked
 

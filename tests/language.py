@@ -297,9 +297,7 @@ class Checker:
                     and ast.unparse(above.func) in ("list", "tuple", "dict", "sorted", "sum", "any", "all", "enumerate",
                                                     "zip", "min", "max")
                     or isinstance(above, ast.Call) and name == "range" and ast.unparse(above.func) in ("reversed", "len")
-                    or isinstance(above, (ast.Assign, ast.IfExp, ast.Return)) and name == "range")
-            if isinstance(above, ast.Return) and ast.unparse(above.value) != ast.unparse(node):
-                fine = False
+                    or isinstance(above, ast.Assign) and name == "range")
             if not fine:
                 self.fault("L23", node, name)
         if name == "isinstance" and not re.fullmatch(r"\(?[\w, ]+\)?", ast.unparse(node.args[1])):

@@ -117,9 +117,9 @@ def parting(one, other):
     return None
 
 
-def lap(words, names, lap_made, fresh):
-    """One LAP on two lists of letters that are numbered by names; the lists behind it, and the next fresh number."""
-    if lap_made[0] == "runs":
+def lap(words, made, fresh):
+    """One LAP on two lists of letters, which are numbers below fresh; the lists behind it, and the next fresh number."""
+    if made[0] == "runs":
         keyed = []
         for letters in words:
             row = []
@@ -130,7 +130,7 @@ def lap(words, names, lap_made, fresh):
                     row.append((letter, 1))
             keyed.append([key if key[1] > 1 else key[0] for key in row])
     else:
-        left = set(lap_made[1])
+        left = set(made[1])
         keyed = []
         for letters in words:
             row, at = [], 0
@@ -152,7 +152,7 @@ def laps_join(one, other, laps):
     letters = sorted(set(one) | set(other), key=lambda pair: (pair[0] is not None, pair if pair[0] is not None else pair[1]))
     words, fresh = [[letters.index(pair) for pair in row] for row in (one, other)], len(letters)
     for made in laps:
-        words, fresh = lap(words, None, made, fresh)
+        words, fresh = lap(words, made, fresh)
     return words[0] == words[1] and len(words[0]) == 1
 
 

@@ -303,7 +303,18 @@ class Alike(Refusing, unittest.TestCase):
         laps = (("pairs", (1,)),)
         for many in range(1, 5):
             self.refused(BadPaper, "alike", check_alike, four, (TWO,), ("alike", (laps,) * many))
+        # Also where those that both have are the same.
+        self.refused(BadPaper, "alike", check_alike, (A,), (TWO,), ("alike", (laps,)))
+        self.refused(BadPaper, "alike", check_alike, (TWO,), (A,), ("alike", (laps,)))
         self.assertEqual(alike_paper(four, (TWO,)), ("part", 0, 2))
+
+    def test_unlike_single_letters(self):
+        for other in (("block", (((0, 2), (None, 2)),)), ("block", (((1, 2), (None, 1)),)), ("block", (((0, 1), (None, 2)),))):
+            letters = sorted({(0, 2)} | {one for one in other[1][0] if one[0] is not None})
+            rests = {(None, 1)} | {one for one in other[1][0] if one[0] is None}
+            left = tuple(len(rests) + at for at in range(len(letters)))
+            self.assertEqual(check_alike((other,), (other,), ("alike", ((("pairs", (1,)),),))), "alike")
+            self.refused(BadPaper, "alike", check_alike, (A,), (other,), ("alike", ((("pairs", left),),)))
 
 
 if __name__ == "__main__":

@@ -160,6 +160,23 @@ class Entries(Refusing, unittest.TestCase):
             self.assertEqual(check_entries(one, ("pair", prime, floor, other, far)), "pair")
         self.assertEqual(check_entries(rhythm, entries_paper(rhythm)), entries_paper(rhythm)[0])
 
+    def test_pairs_of_odd_primes(self):
+        """Fifteen strokes on thirty beats, five for each rest by 3, three for each rest by 5."""
+        seen = set()
+        for rows in (((1, 1, 1, 1, 1),) * 3, ((2, 1, 0, 1, 1), (0, 1, 2, 1, 1), (1, 1, 1, 1, 1)),
+                     ((2, 0, 1, 2, 0), (1, 2, 0, 0, 2), (0, 1, 2, 1, 1)), ((2, 2, 1, 0, 0), (1, 0, 0, 2, 2), (0, 1, 2, 1, 1))):
+            strokes = []
+            for rest, row in enumerate(rows):
+                for other, many in enumerate(row):
+                    strokes += [beat for beat in range(30) if (beat % 3, beat % 5) == (rest, other)][:many]
+            rhythm = (30, tuple(sorted(strokes)))
+            self.assertEqual((fair_floors(rhythm, 3), fair_floors(rhythm, 5)), ((1,), (1,)))
+            fair = plain_pair(rhythm, 3, 1, 5, 1)
+            self.assertIs(is_fair_pair(rhythm, 3, 1, 5, 1), fair)
+            self.assertEqual(entries_of(rhythm) is not None, fair)
+            seen.add(fair)
+        self.assertEqual(seen, {True, False})
+
     def test_more_than_two_primes(self):
         for beats, strokes in ((90, range(0, 90, 3)), (60, range(30)), (90, range(42)), (96, range(30)), (60, range(60)),
                                (66, range(66)), (70, range(70)), (96, range(90)), (96, range(84)), (31, range(30))):
@@ -206,7 +223,7 @@ class Entries(Refusing, unittest.TestCase):
         rhythm = (8, (0, 1, 4, 5))
         for thing in ((1, 7), (0, 2), (3, 5), (0, 6), (4, 6)):
             self.assertIs(are_entries(rhythm, thing), True, thing)
-        for thing in ODD + ((0, 1), (7, 1), (0, 8), (-1, 1), [1, 7], (0, 2, 4), (0,), (False, 2), (True, 7), (0, 2, 2), ("0", 2),
+        for thing in ODD + ((2, 8), (7, 9), (-2, 0), (0, 1), (7, 1), (0, 8), (-1, 1), [1, 7], (0, 2, 4), (0,), (False, 2), (True, 7), (0, 2, 2), ("0", 2),
                             (0, 10 ** 900), ((0,), 2), (None, 2), range(2), (0, 4)):
             self.assertIs(are_entries(rhythm, thing), False, thing)
         self.assertIs(are_entries((1, (0,)), (0,)), True)
@@ -236,6 +253,8 @@ class Entries(Refusing, unittest.TestCase):
         self.refused(BadPaper, "floors", check_entries, one, ("floors", 5, (True,)))
         unfair = next(one for one in ((12, (0,) + rest) for rest in combinations(range(1, 12), 5)) if entries_paper(one)[0] == "pair")
         word, prime, floor, other, far = entries_paper(unfair)
+        self.refused(BadPaper, "pair", check_entries, unfair, ("pair", prime, floor, prime, floor))
+        self.refused(BadPaper, "pair", check_entries, unfair, ("pair", other, far, other, far))
         for odd in NO_INTEGERS + (0, 10 ** 900):
             self.refused(BadPaper, "pair", check_entries, unfair, ("pair", odd, floor, other, far))
             self.refused(BadPaper, "pair", check_entries, unfair, ("pair", prime, odd, other, far))

@@ -327,11 +327,11 @@ class Logs(Refusing, unittest.TestCase):
 
     def test_no_log(self):
         for odd in ODD + ([LOG[0], ()], LOG + ((),), (LOG[0],), ((), ()), (list(LOG[0]), ()), (LOG[0] * 2, ()), (LOG[0], []),
-                          (LOG[0], None), (LOG[0], LOG[1] * 7), (None, ())):
+                          (LOG[0], None), (LOG[0], LOG[1] * 6 + LOG[1][:1]), (None, ())):
             self.bad("form", odd)
         need_log((LOG[0] + (CLOCK,), LOG[1] * 6))
         for odd in ODD + (0, list(CLOCK), CLOCK[:2], CLOCK + (0,), (ONE, ONE, ()), (ONE, ONE, [ONE]), (ONE, ONE, (ONE, ONE)),
-                          (ONE, ONE, ((2, 1), ONE)), (ONE, ONE, tuple((at, 1) for at in range(9))), ((2, 1), ONE, (ONE,)), (ONE, ONE, ONE),
+                          (ONE, ONE, ((2, 1), ONE)), (ONE, ONE, ((1, 1), (2, 1), (2, 1))), (ONE, ONE, tuple((at, 1) for at in range(9))), ((2, 1), ONE, (ONE,)), (ONE, ONE, ONE),
                           ((0, 1), ONE, (ONE,)), ((-1, 1), ONE, (ONE,)), (ONE, (1, 2), (ONE,))):
             self.bad(("player", 0), ((odd,), ()))
             self.bad(("player", 1), ((CLOCK, odd), (None,)))

@@ -153,6 +153,11 @@ class Rings(Refusing, unittest.TestCase):
                 self.refused(BadPaper, "stretches", check_even, rhythm, ("uneven", odd, 2, 0))
         self.refused(BadPaper, "stretches", check_even, rhythm, ("uneven", 0, 2, 0))
         self.refused(BadPaper, "turn", check_even, (8, (0, 4)), ("even", 4))
+        # Numbers of gaps do not go on over the end of the ring.
+        wide = (8, (0, 6, 7))
+        self.assertEqual(check_even(wide, ("uneven", 1, 0, 1)), "uneven")
+        for one, other in ((3, 1), (0, 4), (-3, 1), (0, -2)):
+            self.refused(BadPaper, "stretches", check_even, wide, ("uneven", 1, one, other))
 
 
 if __name__ == "__main__":

@@ -125,7 +125,7 @@ class Scores(Refusing, unittest.TestCase):
                      (((0, 1),),) * 5, (((0, 1),), ((0, 2),)), (((0, 96), (0, 96), (0, 1)),), ("ab",), (((False, 1),),),
                      ((("0", 1),),), 3, None):
             self.bad(0, (("block", rows),))
-        for sign in ODD + (("Block", A[1]), ("block", A[1], 1), ["block", A[1]], (b"block", A[1]), (0, A[1]), (("block",), A[1])):
+        for sign in ODD + (("Block", A[1]), ("block", A[1], 1), ["block", A[1]], (b"block", A[1]), (0, A[1]), (("block",), A[1]), (["block"], A[1]), ({}, 0)):
             self.bad(0, (sign,))
             self.bad(1, (A, sign))
 
@@ -159,6 +159,11 @@ class Scores(Refusing, unittest.TestCase):
         self.bad(1, (low, ("up", 0, -1)))
         self.bad(2, (low, ("turned", 0), ("up", 1, 1)))
         self.bad(3, (low, ("turned", 0), ("then", 0, 1), ("up", 2, 1), ("up", 2, -1)))
+        half = ("block", (((50, 1), (0, 1)),))
+        self.bad(2, (half, ("turned", 0), ("up", 1, -11)))
+        self.bad(3, (half, ("turned", 0), ("turned", 1), ("up", 2, 11)))
+        need_score((half, ("turned", 0), ("up", 1, -10), ("up", 1, 24), ("up", 3, 24), ("up", 4, 12)))
+        self.bad(4, (half, ("turned", 0), ("up", 1, 24), ("up", 2, 24), ("up", 3, 13)))
         rest = ("block", (((None, 5),),))
         need_score((rest,) + tuple(("up", at, 24) for at in range(39)))
         slow = ("block", (((1, 33), (None, 1)),))

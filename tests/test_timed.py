@@ -113,6 +113,18 @@ class Timed(Refusing, unittest.TestCase):
         self.assertEqual(nearest_gap(even, 0, (((8, 1), (2, 1)), ((4, 1), (1, 1)), ((2, 1), (2, 1)), (None, (1, 1)))),
                          ((2, 1), 4))
 
+    def test_gaps_within_a_few_rounds(self):
+        """A pair of the tempo has the end of one round and the beginning of another, not what is between in each."""
+        block = ("block", (((0, 1), (1, 2), (2, 9), (3, 4), (4, 3)),))
+        for many in range(2, 8):
+            score = (block, ("again", 0, 9), ("then", 1, 0))
+            for first in range(0, 40, 3):
+                for last in (19 * many - 12, 19 * many + 3, 19 * many - 3, 19 * many + 14):
+                    if first < last:
+                        start = (((first, 1), (1, 1)),) if first else ()
+                        self.gaps(score, 0, start + (((last - first, 1), (1000, 1)), (None, (1, 1))))
+                        self.gaps(score, 0, start + (((last - first, 1), (1, 1000)), (None, (1, 1))))
+
     def rounds(self, many):
         """The same melody again and again, with one wide gap at each end of a round."""
         return (("block", (((0, 2), (None, 1), (4, 1), (7, 5)), ((None, 9),))), ("again", 0, many))
