@@ -128,13 +128,19 @@ class Entries(Refusing, unittest.TestCase):
         for beats, parts in ((96, ((0, 1), (0, 4, 8), (0, 48))), (72, ((0, 1, 2), (0, 9), (0, 18))), (96, ((0, 32, 64), (0, 3))),
                              (90, ((0, 10, 20), (0, 5))), (64, ((0, 1), (0, 4), (0, 16))), (81, ((0, 1, 2), (0, 9, 18))),
                              (95, (tuple(range(0, 95, 5)),)), (96, ((17,),)), (96, (tuple(range(96)),)), (50, ((0, 2, 4, 6, 8),)),
-                             (72, ((0, 8, 16, 18, 26, 34),))):
+                             (72, ((0, 8, 16, 18, 26, 34),)),
+                             (75, ((0, 1, 2), (0, 15, 30, 45, 60))), (75, ((0, 1, 2, 3, 4), (0, 25, 50)))):
             strokes = [0]
             for part in parts:
                 strokes = [stroke + more for stroke in strokes for more in part]
             rhythm = (beats, tuple(sorted(stroke % beats for stroke in strokes)))
             found = entries_of(rhythm)
             self.assertTrue(covers(rhythm, found), rhythm)
+            for prime, other in combinations(primes_in(beats), 2):
+                for floor in fair_floors(rhythm, prime):
+                    for far in fair_floors(rhythm, other):
+                        self.assertTrue(plain_pair(rhythm, prime, floor, other, far))
+                        self.assertIs(is_fair_pair(rhythm, prime, floor, other, far), True)
             self.assertEqual(entries_paper(rhythm)[0], "entries")
             self.assertEqual(check_entries(rhythm, ("entries", found)), "entries")
             shifted = tuple(sorted((entry + 1) % beats for entry in found))
