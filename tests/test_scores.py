@@ -117,7 +117,7 @@ class Scores(Refusing, unittest.TestCase):
         def block(*rows):
             return (("block", rows),)
 
-        fine = [block(((-60, 96), (60, 96))), block(((None, 1),) * 12), block(*(((0, 1),),) * 4), block(((0, 1), (0, 2)), ((1, 3),))]
+        fine = [block(((-60, 96), (60, 96))), block(((None, 16),) * 12), block(((None, 1),) * 12), block(*(((0, 1),),) * 4), block(((0, 1), (0, 2)), ((1, 3),))]
         for score in fine:
             need_score(score)
         for rows in ((((61, 1),),), (((-61, 1),),), (((0, 97),),), (((0, 0),),), (((0, -1),),), (((True, 1),),), (((0, True),),),
