@@ -108,7 +108,9 @@ def make_runs(fold):
     """The LAP ("runs",)."""
     open_joints(fold, None)
     runs = sorted({run for row in fold.rows.values() for run in row if run[1] > 1})
-    letters = {run: fold.put_run(run[0], run[1]) for run in runs}
+    letters = {}
+    for run in runs:
+        letters[run] = fold.put_run(run[0], run[1])
     for symbol in fold.order:
         fold.rows[symbol] = [(letters[run], 1) if run in letters else run for run in fold.rows[symbol]]
     fold.settle()
@@ -122,7 +124,9 @@ def make_pairs(fold, left):
         for at in range(len(row) - 1):
             if row[at][0] in left and row[at + 1][0] >= 0 and row[at + 1][0] not in left:
                 found[(row[at][0], row[at + 1][0])] = True
-    letters = {pair: fold.put_pair(pair[0], pair[1]) for pair in sorted(list(found))}
+    letters = {}
+    for pair in sorted(list(found)):
+        letters[pair] = fold.put_pair(pair[0], pair[1])
     for symbol in fold.order:
         fold.rows[symbol] = with_pairs(fold.rows[symbol], letters)
     fold.settle()

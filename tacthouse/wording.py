@@ -82,7 +82,9 @@ class Wording:
         fold = self.fold
         rests = sorted([meaning for meaning in self.numbers if meaning[0] is None], key=lambda pair: pair[1])
         others = sorted([meaning for meaning in self.numbers if meaning[0] is not None])
-        final = {self.numbers[meaning]: fold.put_letter(meaning, meaning[1]) for meaning in rests + others}
+        final = {}
+        for meaning in rests + others:
+            final[self.numbers[meaning]] = fold.put_letter(meaning, meaning[1])
         fold.firsts = len(final)
         for symbol in fold.order:
             fold.rows[symbol] = [(final.get(part, part), many) for part, many in fold.rows[symbol]]
