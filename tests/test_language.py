@@ -52,6 +52,25 @@ class Language(unittest.TestCase):
             "tacthouse.logs": "need_log(thing) log_moments(log) log_steps(log) do_fit(log,times) can_be(log)"
                               " log_paper(log) check_log(log,paper) most_behind(log,one,far) most_paper(log,one,far)"
                               " check_most(log,one,far,paper)",
+            "tacthouse.marks": "clock_drift(clocks) first_apart(score,tempo,clocks,tol,marks)"
+                               " least_marks(score,tempo,clocks,tol) latest_mark(score,tempo,clocks,tol,number)"
+                               " begin_marks(score,voices,rate,clocks,tol) begin_bar(score,voices,rate,clocks,tol)",
+            "tacthouse.ringers": "does_strike(one,second) common_round(ringers) many_meets(ringers)"
+                                 " first_meet(ringers,second) meet_at(ringers,second,number)"
+                                 " meets_between(ringers,second,other) meet_paper(ringers) check_meet(ringers,paper)"
+                                 " nearest_strokes(one,other) dodges(one,other) first_doubt(one,other,low,high,mark)",
+            "tacthouse.rulings": "need_rule(rule) is_plain(rule) faces_of(rule,other)",
+            "tacthouse.faults": "state_ahead(score,rule,tick) many_faults(score,rule) is_kept(score,rule)"
+                                " fault_at(score,rule,number) kept_paper(score,rule) check_kept(score,rule,paper)",
+            "tacthouse.follows": "does_follow(rule,other) follow_paper(rule,other) check_follow(rule,other,paper)"
+                                 " is_kept_by(rule,sounds)",
+            "tacthouse.games": "does_hold(game) game_paper(game) check_game(game,paper) least_ticks(game)"
+                               " answer_to(game,line)",
+            "tacthouse.calls": "is_answered(game,call) are_all_answered(game) call_paper(game) check_call(game,paper)",
+            "tacthouse.choices": "least_faults(score,choices,rule) can_be_kept(score,choices,rule)",
+            "tacthouse.units": "unit_of(score,voice,delay) board_of(score,voice,delay) most_singers(score,song)",
+            "tacthouse.distances": "pairs_of(score,song,number) is_clean(score,song,good,number)"
+                                   " first_clash(score,song,good,number)",
         }
         seen = {module: text for module, _, text in language.sources()}
         for module in listed:
