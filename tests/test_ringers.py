@@ -257,6 +257,9 @@ class Ringers(Refusing, unittest.TestCase):
         self.assertEqual(len(dodges(((40, (0, 1)), ONE, (47, 1)), ((47, (0,)), ONE, (40, 1)))), 40 * 47 - 2)
         self.assertEqual(len(dodges(((50, (0,)), ONE, (39, 40)), ((39, (0,)), ONE, (5, 4)))), 50 * 39 - 1)
         self.assertEqual(len(dodges(((80, (0,)), ONE, (25, 1)), ((75, (0,)), ONE, (80, 3)))), 2000 * 3 // 5 - 1)
+        # 54 times 37, and 69 times 29: 1,998 and 2,001 UNITS.
+        self.assertEqual(len(dodges(((54, (0, 1)), ONE, (37, 5)), ((37, (0, 1, 2)), ONE, (54, 5)))), 1998 - 6)
+        self.refused(TooMany, 2000, dodges, ((69, (0,)), ONE, (29, 5)), ((29, (0,)), ONE, (69, 5)))
 
     def test_doubts_against_all_pairs(self):
         kinds = set()
