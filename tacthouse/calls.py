@@ -40,8 +40,7 @@ class Lots:
                 for does_sound in (False, True):
                     lot = 0
                     for answer in words_for(does_sound):
-                        face = None if word == "rest" or answer == "rest" else 0
-                        following, fault = looker.change(moment_of_two(word, answer, face))[state]
+                        following, fault = looker.change(moment_of_two(word, answer, None))[state]
                         if not fault:
                             lot |= bit_of(following, answer != "rest")
                     leads[word].append(lot)

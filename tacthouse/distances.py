@@ -28,8 +28,6 @@ def pairs_of(score, song, number):
     need_song(score, song)
     need_distance(score, song, number)
     unit, units = units_apart(score, song, number)
-    if is_over(score, song, number):
-        return ()
     return tuple(sorted(list(Stretches(score, song[0], unit, units).pairs())))
 
 

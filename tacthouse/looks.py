@@ -40,8 +40,6 @@ class Look:
     def ahead_of(self, tick):
         """(the STATE, how many faults) ahead of a tick, from 0 to the LENGTH."""
         heard, left, state, faults = self.hearing.start, tick, 0, 0
-        if tick == self.hearing.span(heard[0]):
-            return self.whole()
         while not self.hearing.is_block(heard[0]):
             for part, many in self.hearing.parts(heard):
                 heard, span = part, self.hearing.span(part[0])

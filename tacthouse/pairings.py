@@ -101,8 +101,7 @@ def sounds_of_two(deeds):
 def pitches_for(pitches, one, other, difference):
     """The PITCHES that two voices have, or had last, behind what they do, the difference being told."""
     if other == "begin":
-        base = pitches[0] if one == "on" else difference
-        return [base, base - difference]
+        return [pitches[0], pitches[0] - difference]
     if one == "begin":
-        return [pitches[1] + difference if other == "on" else difference, pitches[1]]
+        return [pitches[1] + difference, pitches[1]]
     return pitches

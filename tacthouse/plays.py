@@ -154,8 +154,7 @@ def can_force(outcomes, ranks):
 
 def is_move(thing, moves):
     """Whether a value is one of some MOVES or ANSWERS."""
-    if not is_row(thing, 1, 2) or not isinstance(thing[0], str):
+    if not is_row(thing, 1, 2) or thing not in moves:
         return False
-    if len(thing) == 2 and not (thing[1] is None or is_from_to(thing[1], -132, 132)):
-        return False
-    return thing in moves
+    # True and False are equal to 1 and 0.
+    return not isinstance(thing[-1], bool)

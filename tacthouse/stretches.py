@@ -50,13 +50,13 @@ class Stretches:
         many, firsts, lasts, places = one
         more, other_firsts, other_lasts, other_places = other
         places = dict(places)
-        # The one pitch is among the last ones of the one, the other pitch that far behind it.
+        # Behind the pairs within the one those with one pitch among its last ones, then those within the other one.
         start = self.distance - len(lasts)
         for at, (pitch, later) in enumerate(zip(lasts, other_firsts[start:])):
             if pitch is not None and later is not None:
-                put_least(places, (pitch, later), many - len(lasts) + at)
+                places.setdefault((pitch, later), many - len(lasts) + at)
         for pair, at in other_places.items():
-            put_least(places, pair, many + at)
+            places.setdefault(pair, many + at)
         if len(firsts) < self.distance:
             firsts = (firsts + other_firsts)[:self.distance]
         if len(other_lasts) < self.distance:
@@ -74,9 +74,3 @@ class Stretches:
             if digit == "1":
                 made = self.joined(made, one)
         return (units * many,) + made[1:]
-
-
-def put_least(places, pair, place):
-    """Puts a place of a pair there, if it is the first one."""
-    if pair not in places or place < places[pair]:
-        places[pair] = place

@@ -118,7 +118,7 @@ def no_rules():
     parts = [None, (), ("sounds",), ("sounds", 1), ("sounds", -1), ("sounds", True), ("sounds", None), ("sounds", 0, 0), ["sounds", 0],
              ("Sounds", 0), ("", 0), (0, 0), ("silent", 0, 1), ("begins", "0"), ("pitch", 0), ("pitch", 0, 0), ("pitch", 0, 1, 0), ("pitch", 0, -121, 0),
              ("pitch", 0, 0, 121), ("pitch", 0, None, 0), ("pitch", 0, 0, False), ("pitch", 0, 0, 0, 0), ("step", 0, 2, 1), ("step", 0, 0),
-             ("step", 1, 0, 0), ("apart", 0, 0, 0, 0), ("apart", 0, 1, 0, 0), ("class", 0, 1, ()), ("class", 0, 0, ()), (None, 0), (("sounds",), 0)]
+             ("step", 1, 0, 0), ("apart", 0, 0, 0, 0), ("apart", 0, 1, 0, 0), ("class", 0, 1, ()), ("class", 0, 0, ()), (None, 0), (("sounds",), 0), ([], 0), ({}, 0)]
     found += [(1, ((((part,), 0, 0), ((), 0, 0)),)) for part in parts]
     pairs = [("apart", 0, 1, 0), ("apart", 0, 1, 1, 0), ("apart", 0, 1, -121, 0), ("apart", 0, 1, 0, 121), ("apart", 0, 0, 0, 1), ("apart", 0, 2, 0, 1),
              ("apart", 2, 0, 0, 1), ("apart", 0, True, 0, 1), ("apart", False, 1, 0, 1), ("apart", 0, 1, True, 1), ("apart", 0, 1, 0, 1, 0), ("class", 0, 1),

@@ -180,6 +180,10 @@ class Calls(Refusing, unittest.TestCase):
                           (False, ((0, 0),)), (False, ((False, False),)), (False, ((3, False),)), (False, ((-1, False),)), (False, ((0, False, 0),)),
                           (False, ((0,),)), (False, (None,)), (False, ((0, False), (0, False))), (False, ((0, True), (0, False))), (False, None)):
             self.refused(BadPaper, "all", check_call, AHEAD, ("all", told[:at] + (bad,) + told[at + 1:]))
+        # Rows that are not asked for have to be LOTS of the STATES, too.
+        self.assertEqual(check_call(AHEAD, ("all", tuple(sorted(told + ((False, ((0, False), (1, False))),))))), "all")
+        for lot in (((0, False), (3, False)), ((0, False), (2, False), (3, True)), ((0, False), (6, False))):
+            self.refused(BadPaper, "all", check_call, AHEAD, ("all", tuple(sorted(told + ((False, lot),)))))
         never = (2, ((((), 0, 1),),))
         for bad in ODD + (0, ["rest"], ("on",), ("rest", "on"), ("Rest",), ("rest", None), ("rest", 0), "rest", (("rest",),), ("rest",) * 2001):
             self.refused(BadPaper, "none", check_call, never, ("none", bad))

@@ -174,6 +174,10 @@ class Choices(Refusing, unittest.TestCase):
         for call in (least_faults, can_be_kept):
             self.refused(TooMany, 200, call, high[:20], every[:19], FREE)
             self.refused(TooMany, 200, call, high, every, FREE)
+        # Just 200, and one more.
+        turned = high[:19] + tuple(("turned", at) for at in range(18, 29))
+        self.assertEqual(least_faults(turned[:29], every[:18], FREE), 0)
+        self.refused(TooMany, 200, least_faults, turned, every[:18], FREE)
         # Those above what can be chosen are asked for at one height alone.
         self.assertEqual(least_faults(high, every[:12], FREE), 0)
         # It is counted behind the errors of all arguments.

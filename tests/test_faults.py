@@ -155,6 +155,21 @@ class Faults(Refusing, unittest.TestCase):
             for at in range(len(ways)):
                 bad = rows[:2] + ((block, (0,), ways[:at] + ways[at + 1:]),)
                 self.refused(BadPaper, "kept", check_kept, score, turn, ("kept", bad))
+        # Into the turn from without: from 0 to 1, then 2 and 3 and 4 in turn.
+        into = (1, tuple((((("begins", 0),), state + 1 if state < 4 else 2, 0), ((), state, 0)) for state in range(5)))
+        for many in (2, 3, 6, 7, 8, 10 ** 12 - 1, 10 ** 12):
+            score = (A, ("again", 0, many))
+            behind = many if many < 5 else 2 + (many - 2) % 3
+            ways = tuple((state, state + 1 if state < 4 else 2) for state in range(1, min(many, 5)))
+            rows = ((block, (None,), ((0, 1),)), (again, (None,), ((0, behind),)), (block, (0,), ways))
+            self.assertEqual(sorted(kept_paper(score, into)[1], key=repr), sorted(rows, key=repr))
+            self.assertEqual(check_kept(score, into, ("kept", rows)), "kept")
+            self.assertEqual(state_ahead(score, into, 3 * many), behind)
+            for other in {1, 2, 3, 4} - {behind}:
+                self.refused(BadPaper, "kept", check_kept, score, into, ("kept", (rows[0], (again, (None,), ((0, other),)), rows[2])))
+            for at in range(len(ways)):
+                bad = rows[:2] + ((block, (0,), ways[:at] + ways[at + 1:]),)
+                self.refused(BadPaper, "kept", check_kept, score, into, ("kept", bad))
 
     def test_papers_of_many_kinds(self):
         score, made = SCORE, ALWAYS
@@ -176,7 +191,11 @@ class Faults(Refusing, unittest.TestCase):
                           (block, (None,), (None,)), (block, (None,), None), (block, (None,), 0), (block, None, ((0, 0),)), (None, (None,), ((0, 0),)),
                           (block, (None,), ((-1, 0),)), (block, (None,), ((0, -1),))):
             self.refused(BadPaper, "kept", check_kept, score, made, ("kept", (bad,) + rows[1:]))
-        self.refused(BadPaper, "kept", check_kept, score, made, ("kept", rows + ((block, (3,), ((0, 1),)),)))
+        for more in ((block, (3,), ((0, 1),)), (block, (3,), ((1, 0),)), (block, (3,), ((-1, 0),)), ((0, 0, True, False, 1), (3,), ((0, 0),)),
+                     ((0, 0, False, True, 1), (3,), ((0, 0),)), ((0, 1, False, False, 1), (3,), ((0, 0),)), ((2, 0, False, False, 1), (3,), ((0, 0),)),
+                     ((0, 0, 0, False, 1), (3,), ((0, 0),)), ((0, 0, False, 0, 1), (3,), ((0, 0),)), ((0, 0, False, False, 1, 1), (3,), ((0, 0),)),
+                     ((0, 0, False, False, 2), (3,), ((0, 0),)), ((-1, 0, False, False, 1), (3,), ((0, 0),))):
+            self.refused(BadPaper, "kept", check_kept, score, made, ("kept", rows + (more,)))
         self.assertEqual(check_kept(score, made, ("kept", rows + ((block, (60,), ((0, 0),)), (block, (-60,), ())))), "kept")
         for odd in NO_INTEGERS + (-1, 12, 10 ** 900):
             self.refused(BadPaper, "fault", check_kept, score, TWICE, ("fault", odd))
@@ -213,23 +232,23 @@ class Faults(Refusing, unittest.TestCase):
 
     def test_many_pairs(self):
         """Up to 2,000 unlike pairs of a VARIED SIGN and an ear."""
-        three = (3, ALWAYS[1])
+        three, counts = (3, ALWAYS[1]), []
         for rows in (3, 8):
             score = many_ears(4, rows)
             self.assertEqual({row[:2] for row in kept_paper(score, ALWAYS)[1]}, pairs(score))
-        for many in (5, 6):
-            tall = self.tall(many)
+        full = self.tall(12, (4, 8, 4))
+        for tall in (self.tall(5), self.tall(6), full, full + (("turned", 33),)):
             count = len(pairs(tall))
             if count > 2000:
                 for call, rest in ((state_ahead, (0,)), (many_faults, ()), (is_kept, ()), (fault_at, (None,)), (kept_paper, ()), (check_kept, (None,))):
                     self.refused(TooMany, 2000, call, tall, three, *rest)
             else:
                 self.assertEqual(len(kept_paper(tall, three)[1]), count)
-                self.assertGreater(count, 1500)
                 self.refused(BadNumber, None, fault_at, tall, three, None)
-            self.assertEqual(count > 2000, many == 6)
+            counts.append(count)
+        self.assertEqual(counts, [1920, 2144, 2000, 2001])
 
-    def tall(self, many):
+    def tall(self, many, counts=(8, 7, 4)):
         """A score in which rests, so many signs and one more, come by all last PITCHES of three voices together."""
         score = [("block", tuple(((0 if voice == at else None, 1),) for voice in range(3))) for at in range(3)]
         score.append(("block", (((None, 1),),) * 3))
@@ -237,7 +256,7 @@ class Faults(Refusing, unittest.TestCase):
         for _ in range(many):
             score.append(("then", whole, whole))
             whole = len(score) - 1
-        for voice, pitches in enumerate((8, 7, 4)):
+        for voice, pitches in enumerate(counts):
             notes = [voice]
             for up in range(1, pitches):
                 score.append(("up", voice, up))

@@ -204,6 +204,62 @@ class Follows(Refusing, unittest.TestCase):
         self.refused(BadPaper, "not", check_follow, count, free, ("not", (((0, 2), (None, 10 ** 999)),)))
         self.assertEqual(check_follow(count, free, ("not", (tuple((0, 10 ** 998 + at) for at in range(300)),))), "not")
 
+    def not_by(self, rule, other):
+        """A PAPER that the RULE does not follow holds, and is told for sounds that keep the other one alone."""
+        paper = follow_paper(rule, other)
+        self.assertEqual(paper[0], "not")
+        self.assertEqual(check_follow(rule, other, paper), "not")
+        self.assertIs(ruling.keeps(other, paper[1]) and not ruling.keeps(rule, paper[1]), True, paper)
+        return paper[1]
+
+    def test_counters_that_go_on(self):
+        """One voice begins while the other one goes on: the differences have to be those that are told."""
+        both = ("begins", 0), ("begins", 1)
+        for turns in ((0, 1, 0, 1, 0), (1, 1, 0, 0, 1), (0, 0, 0, 1, 1), (1, 0, 1, 0, 0)):
+            for rests in ((0, 3, 7, 1, 9), (5, 0, 0, 11, 2)):
+                states = []
+                for at, (turn, rest) in enumerate(zip(turns, rests)):
+                    onward = min(at + 1, 4)
+                    states.append(((both, at, 1), ((("begins", 1 - turn),), at, int(at > 0)), ((("begins", turn), ("class", 0, 1, (rest,))), onward, 0),
+                                   ((("begins", turn), ("class", 0, 1, tuple(range(12)))), at, 1), ((), at, 0)))
+                other = (2, tuple(states))
+                last = states[4][:2] + (states[4][2][:2] + (1,),) + states[4][3:]
+                sounds = self.not_by((2, tuple(states[:4]) + (last,)), other)
+                begins = [[at for at, (_, begin) in enumerate(ruling.ticks_of(line)) if begin] for line in sounds]
+                self.assertFalse(set(begins[0]) & set(begins[1]))
+
+    def test_counters_of_one_voice_alone(self):
+        for voice in (0, 1):
+            # That voice goes on alone, the other one is silent.
+            silent = forbids(2, (("sounds", 1 - voice),))
+            begun = (2, ((((("begins", voice),), 1, 0), ((), 0, 0)), (((("begins", voice),), 1, 0), ((("sounds", voice),), 1, 1), ((), 0, 0))))
+            self.assertEqual(self.not_by(begun, silent)[voice][0][1], 2)
+            # While both go on at a difference of 0.
+            level = forbids(2, (("apart", 0, 1, -120, -1),), (("apart", 0, 1, 1, 120),), (("class", 0, 1, tuple(range(1, 12))),))
+            held = (2, ((((("begins", voice),), 1, 0), ((), 0, 0)), (((("begins", voice),), 1, 0), ((("apart", 0, 1, 0, 0),), 1, 1), ((), 0, 0))))
+            self.not_by(held, level)
+        # First some ticks of rest.
+        late = (1, ((((("silent", 0),), 1, 0), ((), 0, 1)), (((("silent", 0),), 2, 0), ((), 0, 1)), FREE))
+        self.assertEqual(self.not_by((1, (((((("sounds", 0),), 0, 1)), ((), 0, 0)),)), late)[0][0], (None, 2))
+        two = (2, ((((("silent", 0), ("silent", 1)), 1, 0), ((), 0, 1)), (((("silent", 0), ("silent", 1)), 2, 0), ((), 0, 1)), (((), 2, 0),)))
+        self.assertEqual([line[0][0] for line in self.not_by(forbids(2, (("apart", 0, 1, 3, 3),)), two)], [None, None])
+
+    def test_rows_of_other_kinds(self):
+        """What is equal to a row of a TABLE, or stands in its place, but is none."""
+        one, two = forbids(1, (("step", 0, 24, 24),)), forbids(2, (("apart", 0, 1, 0, 0),))
+        for rule in (one, two):
+            full = follow_paper(rule, rule)[1]
+            for at, (state, own, situation) in enumerate(full):
+                told = [(state, own, (int(situation[0]),) + situation[1:]), (state, own, situation[:1] + (int(bool(situation[1])),) + situation[2:]),
+                        (bool(state), own, situation), (state, bool(own), situation), (state, own, situation + (0,)), (state, own, list(situation)),
+                        (state, own, situation, 0), [state, own, situation], (state, own, (situation[0], situation[1] + (0,)) if rule is one else situation[:2]),
+                        (state, own, (not situation[0], ())) if rule is one else (state, own, situation[:2] + (5,))]
+                for bad in told:
+                    if repr(bad) != repr(full[at]) and repr(bad) not in [repr(row) for row in full]:
+                        self.refused(BadPaper, "follows", check_follow, rule, rule, ("follows", full[:at] + (bad,) + full[at + 1:]))
+                        self.refused(BadPaper, "follows", check_follow, rule, rule, ("follows", full[:at] + (bad,) + full[at:]))
+                        self.refused(BadPaper, "follows", check_follow, rule, rule, ("follows", full[:at + 1] + (bad,) + full[at + 1:]))
+
     def test_papers_of_many_kinds(self):
         rule, other = forbids(1, (("sounds", 0),)), forbids(1)
         for bad in ODD + ("not", ("not",), ["not", ()], ("not", (), ()), ("follows",), ("follows", (), 0), ("kept", ()), (("not",), ())):

@@ -156,6 +156,12 @@ class Games(Refusing, unittest.TestCase):
             self.refused(BadPaper, "ends", check_game, game, ("ends", told[:at] + (FIRST + (least[FIRST] - 1,),) + told[at + 1:]))
             self.refused(BadPaper, "ends", check_game, game, ("ends", told[at:at + 1]))
         self.refused(BadPaper, "ends", check_game, game, ("ends", told + told[-1:]))
+        for number, row in enumerate(told):
+            if row[2] == 1:
+                for rank in (0, -1, True, None):
+                    self.refused(BadPaper, "ends", check_game, game, ("ends", told[:number] + (row[:2] + (rank,),) + told[number + 1:]))
+        for more in ((len(game[1]), FIRST[1], 1), (len(game[1]) + 1, (True, False, None), 10 ** 6)):
+            self.refused(BadPaper, "ends", check_game, game, ("ends", told + (more,)))
         if len(told) > 1:
             self.refused(BadPaper, "ends", check_game, game, ("ends", told[1::-1] + told[2:]))
         for place in places(game, faces(game)):
@@ -186,6 +192,34 @@ class Games(Refusing, unittest.TestCase):
         count = (2, tuple(((((("begins", 0),), at + 1, 0), ((), at, 0))) for at in range(5)) + ((((("begins", 0),), 5, 1), ((), 5, 0)),))
         self.assertEqual(least_ticks(count), 6)
         self.assertEqual(check_game(count, game_paper(count)), "ends")
+
+    def test_going_on(self):
+        """What sounded alone can go on, of either voice; also at a difference of 0."""
+        for voice in (0, 1):
+            held = (2, ((((("begins", voice),), 1, 0), ((), 0, voice)), (((("begins", voice),), 1, 1), ((("sounds", voice),), 1, 0), ((), 1, 1))))
+            # The voice 1 can do so for ever; the voice 0 need not.
+            self.assertEqual(least_ticks(held), 2 if voice == 0 else None)
+            self.assertEqual(check_game(held, game_paper(held)), "ends" if voice == 0 else "plan")
+        level = (2, ((((("class", 0, 1, (0,)), ("begins", 1)), 0, 0), ((("begins", 1),), 0, 1), ((("apart", 0, 1, 0, 0),), 0, 0), ((("sounds", 0),), 0, 1), ((), 0, 0)),))
+        self.assertIs(does_hold(level), True)
+        # It cannot but go on, where it may neither begin nor rest, and so has to have begun there.
+        kept = (2, ((((("sounds", 0), ("begins", 1)), 1, 0), ((("sounds", 0),), 0, 1), ((), 0, 0)),
+                    (((("begins", 1),), 1, 1), ((("silent", 1),), 1, 1), ((), 1, 0))))
+        self.assertIs(does_hold(kept), True)
+        self.assertEqual(answer_to(kept, ((None, 1), (3, 2), (None, 4), (5, 1)))[-1][1], 7)
+
+    def test_moves_of_other_kinds(self):
+        """What is equal to a MOVE or an ANSWER, or a part of one, but is none."""
+        game = (2, ((((("apart", 0, 1, 0, 0),), 0, 0), ((("apart", 0, 1, 1, 1),), 0, 0), ((), 0, 0)),))
+        self.assertEqual(faces(game), (-132, 0, 1))
+        plan = game_paper(game)[1]
+        for at, row in enumerate(plan):
+            for part in (2, 3):
+                face = row[part][-1]
+                others = [("begin", bool(face))] if face in (0, 1) else []
+                for bad in others + [list(row[part]), row[part] + (None,), row[part][:1] * 2, ("begin", 7), ("begin", -1), ("on", None), ("begin",), "rest", None]:
+                    told = row[:part] + (bad,) + row[part + 1:]
+                    self.refused(BadPaper, "plan", check_game, game, ("plan", plan[:at] + (told,) + plan[at + 1:]))
 
     def test_twelve_faces(self):
         rests = [("class", 0, 1, (rest,)) for rest in range(11)]

@@ -255,6 +255,21 @@ class Marks(Refusing, unittest.TestCase):
         self.assertEqual(begin_bar(far, (0,), ONE, clocks, (190, 1)), (many - 1, many + 191))
         self.assertIsNone(begin_bar(far, (0,), ONE, clocks, (191, 1)))
 
+    def test_rests_between(self):
+        """Rests, also again and again, ahead of, between and behind what begins."""
+        clocks = ((ONE, ONE), (ONE, (2, 1)))
+        rest, note = ("block", (((None, 5),),)), ("block", (((0, 1), (None, 1)),))
+        rows = ((note, rest, ("then", 0, 1), ("then", 2, 0)), (note, rest, ("again", 1, 3), ("then", 0, 2), ("then", 3, 0), ("then", 4, 1)),
+                (rest, note, ("again", 0, 2), ("then", 2, 1), ("ends", 3, (0, 2, 3)), ("again", 4, 2)),
+                (rest, ("again", 0, 4), ("up", 1, 3)), (rest, note, ("ends", 0, (0, 1, 0)), ("back", 2), ("then", 3, 2)))
+        for score in rows:
+            length = plain.length(score)
+            for span in range(1, length + 2):
+                bar = bar_of(score, (0,), span)
+                self.assertEqual(begin_bar(score, (0,), ONE, clocks, (span, 1)), bar, (score, span))
+                ticks = [begin for begin in begins_of(score, (0,)) if begin]
+                self.assertEqual(begin_marks(score, (0,), ONE, clocks, (span, 1)), fewest(ticks, length, lambda mark, tick: tick - mark <= span))
+
     def test_at_the_end(self):
         """Nothing begins at the LENGTH: the last MARK has to reach up to it."""
         clocks = ((ONE, ONE), (ONE, (2, 1)))

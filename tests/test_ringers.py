@@ -125,6 +125,24 @@ class Ringers(Refusing, unittest.TestCase):
             self.papers(ringers, told)
         self.assertEqual(counts, {0, 1, 2, 3})
 
+    def test_three_and_four_with_much_in_common(self):
+        counts = set()
+        for start in range(150):
+            numbers = Numbers(start + 4000)
+            ringers = []
+            for _ in range(3 + numbers.below(2)):
+                beats = (4, 6, 8, 9, 12, 18)[numbers.below(6)]
+                strokes = tuple(sorted({numbers.below(beats) for _ in range(1 + numbers.below(4))}))
+                ringers.append(((beats, strokes), (numbers.below(9), 1), ONE))
+            ringers = tuple(ringers)
+            told = meets(ringers, Fraction(3), Fraction(3 + 72))
+            counts.add(min(len(told), 4))
+            common = joint([round_of(ringer) for ringer in ringers])
+            self.assertEqual(many_meets(ringers) * 72, len(told) * common)
+            self.assertEqual([meet_at(ringers, (3, 1), number) for number in range(len(told))], [pair(second) for second in told])
+            self.papers(ringers, told)
+        self.assertEqual(counts, {0, 1, 2, 3, 4})
+
     def between(self, ringers, begin, common, told, numbers):
         for _ in range(3):
             end = begin + Fraction(numbers.below(200) - 20, 1 + numbers.below(3))
@@ -175,6 +193,10 @@ class Ringers(Refusing, unittest.TestCase):
         for bad in ODD + (0, (6,), (6, 0, 0), [6, 0], (6, False), (6, 1), (0, 0), (6, None), (-2, 0), (6, 10 ** 900), "60"):
             self.refused(BadPaper, "meet", check_meet, RINGERS, ("meet", bad, (5, 2)))
         self.refused(BadPaper, "meet", check_meet, NEVER, ("meet", (0, True), (1, 1)))
+        # A beat that is no stroke, at a second at which it would strike.
+        halves = (((4, (0, 2)), (0, 1), ONE), ((2, (1,)), (0, 1), ONE))
+        self.refused(BadPaper, "meet", check_meet, halves, ("meet", (1, 1), (1, 1)))
+        self.refused(BadPaper, "meet", check_meet, halves, ("meet", (0, 0), (0, 1)))
         for odd in NO_FRACTIONS + ((0, 1), (5, 1), (10, 4)):
             self.refused(BadPaper, "meet", check_meet, RINGERS, ("meet", (6, 0), odd))
         self.assertEqual(meet_paper(NEVER), ("never", ((0, 1),)))
@@ -308,6 +330,8 @@ class Ringers(Refusing, unittest.TestCase):
         self.assertEqual(first_doubt(quick, slow, (10 ** 9, 1), (10 ** 9 + 1, 1), (1, 1)), ((400, 1), (400, 1)))
         self.refused(TooMany, 400, first_doubt, quick, slow, (10 ** 9, 1), (10 ** 9 + 1, 1), (0, 1))
         self.refused(TooMany, 400, first_doubt, slow, quick, (10 ** 9, 1), (10 ** 9 + 1, 1), (0, 1))
+        far = ((96, (0,)), (3 * 10 ** 9 + 1, 2), (10 ** 9, 1))
+        self.refused(TooMany, 400, first_doubt, quick, far, ONE, (10 ** 9 + 1, 10 ** 9), (0, 1))
         # Nothing of this if both bounds are the same.
         self.assertEqual(first_doubt(quick, slow, ONE, ONE, (-1000, 1)), ((400, 1), (400, 1)))
         full = ((96, tuple(range(96))), (0, 1), ONE)
