@@ -5,12 +5,22 @@ They are kept here as a list with, for each rest, a dict of pairs (FIRST, LAST) 
 
 from math import gcd
 
+from tacthouse.errors import TooMany
 from tacthouse.signs import lengths_of
 from tacthouse.varied import asked_of, block_events, parts_of, rising, top_of
 
+MOST_SPAN = 48
+
+
+def span_by(unit, ticks):
+    """The SPAN of so many ticks, if it is not too great."""
+    if ticks // unit > MOST_SPAN:
+        raise TooMany(MOST_SPAN)
+    return ticks // unit
+
 
 class Boards:
-    """The boards of all VARIED SIGNS that a SCORE asks for, in a voice, by a UNIT and a SPAN."""
+    """The boards of VARIED SIGNS that a SCORE asks for, in a voice, by a UNIT and a SPAN."""
 
     def __init__(self, score, voice, unit, span):
         self.signs = score
@@ -19,7 +29,10 @@ class Boards:
         self.span = span
         self.lengths = lengths_of(score)
         self.boards = {}
-        for varied in rising(asked_of(score)):
+
+    def put_all(self):
+        """Puts the true boards of all VARIED SIGNS there."""
+        for varied in rising(asked_of(self.signs)):
             self.boards[varied] = self.built(varied)
 
     def units(self, varied):
@@ -54,9 +67,20 @@ class Boards:
         return with_board(made, made, (many - few) * units) if many > few else made
 
     def top_board(self):
-        """The BOARD of the voice as it is told."""
-        board = self.boards[top_of(self.signs)]
-        return tuple([tuple([(pitch,) + places[pitch] for pitch in sorted(list(places))]) for places in board])
+        """The board of the SCORE as it is."""
+        return self.boards[top_of(self.signs)]
+
+
+def true_boards(score, voice, unit, span):
+    """The boards of all VARIED SIGNS that a SCORE asks for."""
+    boards = Boards(score, voice, unit, span)
+    boards.put_all()
+    return boards
+
+
+def as_told(board):
+    """A BOARD as it is told."""
+    return tuple([tuple([(pitch,) + places[pitch] for pitch in sorted(list(places))]) for places in board])
 
 
 def put_place(places, pitch, first, last):

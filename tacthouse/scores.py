@@ -50,13 +50,17 @@ def asked_signs(score):
     return tuple([(varied, asked[varied]) for varied in rising(asked)])
 
 
+def need_short(score):
+    """Refuses a SCORE that is not SHORT."""
+    if sum([event_counts(score, voice, False)[-1] for voice in range(voice_count(score))]) > MOST_UNFOLDED:
+        raise TooMany(MOST_UNFOLDED)
+
+
 def unfolded(score):
     """The WORDS of all VOICES."""
     need_score(score)
-    voices = range(voice_count(score))
-    if sum([event_counts(score, voice, False)[-1] for voice in voices]) > MOST_UNFOLDED:
-        raise TooMany(MOST_UNFOLDED)
-    return tuple([tuple(with_rests_joined(events_read(score, voice))) for voice in voices])
+    need_short(score)
+    return tuple([tuple(with_rests_joined(events_read(score, voice))) for voice in range(voice_count(score))])
 
 
 def events_read(score, voice):
@@ -68,6 +72,16 @@ def events_read(score, voice):
             events = events + reads[part] * many
         reads[varied] = events
     return reads[top_of(score)]
+
+
+def notes_read(score, voice):
+    """The EVENTS with a PITCH that a SCORE reads as in a VOICE, as (PITCH, begin, end)."""
+    notes, begin = [], 0
+    for pitch, long in events_read(score, voice):
+        if pitch is not None:
+            notes.append((pitch, begin, begin + long))
+        begin += long
+    return notes
 
 
 def with_rests_joined(events):

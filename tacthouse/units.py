@@ -1,11 +1,9 @@
 """Rounds of voices by units: boards of what can sound at each rest, and how many singers there can be."""
 
-from tacthouse.boards import Boards
-from tacthouse.errors import BadNumber, TooMany
+from tacthouse.boards import as_told, span_by, true_boards
+from tacthouse.errors import BadNumber
 from tacthouse.scores import need_both
 from tacthouse.song import is_delay, most_by, need_song, unit_by
-
-MOST_SPAN = 48
 
 
 def need_delay(score, voice, delay):
@@ -25,9 +23,7 @@ def board_of(score, voice, delay):
     """The BOARD of a voice for a DELAY."""
     need_delay(score, voice, delay)
     unit = unit_by(score, voice, delay)
-    if delay // unit > MOST_SPAN:
-        raise TooMany(MOST_SPAN)
-    return Boards(score, voice, unit, delay // unit).top_board()
+    return as_told(true_boards(score, voice, unit, span_by(unit, delay)).top_board())
 
 
 def most_singers(score, song):

@@ -1,5 +1,6 @@
 """VARIED SIGNS: those of which a SCORE is put together, and what they read."""
 
+from tacthouse.kinds import is_integer, is_row
 from tacthouse.signs import named_parts
 
 MOST_ASKED = 200
@@ -53,6 +54,13 @@ def asked_of(score):
         if len(asked) > MOST_ASKED:
             return None
     return asked
+
+
+def is_asked_for(asked, thing):
+    """Whether a value is one of the VARIED SIGNS that are asked for."""
+    if not is_row(thing, 5, 5) or not all([is_integer(thing[at]) for at in (0, 1, 4)]):
+        return False
+    return isinstance(thing[2], bool) and isinstance(thing[3], bool) and thing in asked
 
 
 def rising(asked):

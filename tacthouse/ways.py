@@ -1,8 +1,9 @@
 """Papers that a rule is kept: by each varied sign and ear the ways from state to state without a fault."""
 
-from tacthouse.kinds import is_from_to, is_integer, is_row
+from tacthouse.kinds import is_from_to, is_row
 from tacthouse.moments import state_times
 from tacthouse.signs import HIGHEST
+from tacthouse.varied import is_asked_for
 
 
 def kept_rows(look):
@@ -33,13 +34,6 @@ def states_ahead(change, state, many):
     return states
 
 
-def is_asked_for(hearing, thing):
-    """Whether a value is a VARIED SIGN that a SCORE asks for."""
-    if not is_row(thing, 5, 5) or not all([is_integer(thing[at]) for at in (0, 1, 4)]):
-        return False
-    return isinstance(thing[2], bool) and isinstance(thing[3], bool) and thing in hearing.asked
-
-
 def is_ear(hearing, thing):
     """Whether a value is an ear."""
     if not is_row(thing, hearing.voices, hearing.voices):
@@ -65,7 +59,7 @@ def told_ways(look, rows):
         return None
     told = {}
     for row in rows:
-        if not is_row(row, 3, 3) or not is_asked_for(look.hearing, row[0]) or not is_ear(look.hearing, row[1]):
+        if not is_row(row, 3, 3) or not is_asked_for(look.hearing.asked, row[0]) or not is_ear(look.hearing, row[1]):
             return None
         heard = (row[0], row[1])
         if heard in told or not are_ways(row[2], len(look.looker.states)):

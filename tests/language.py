@@ -228,7 +228,9 @@ class Checker:
         if name in PYTHONS or name in BARRED_NAMES or name in BARRED:
             if not (own and isinstance(getattr(node, "above", None), ast.ClassDef) and name not in BARRED):
                 self.fault("L15", node, name)
-        if not own and (name in self.imported or name in self.classes or name in self.outer):
+        # A parameter may have the name of a function of its file: the interface has such.
+        outer = self.imported | self.classes if isinstance(node, ast.arg) else self.outer
+        if not own and name in outer:
             self.fault("L15", node, f"{name} is an outer name, too")
         if not re.fullmatch(r"_|_?[A-Za-z][A-Za-z0-9_]*|__\w+__", name) or (name.startswith("__") and name not in DUNDERS):
             self.fault("L12", node, name)

@@ -13,6 +13,7 @@ class Examples(unittest.TestCase):
         from tacthouse.entries import check_entries
         from tacthouse.laid import laid
         from tacthouse.rings import content_of, even_rhythm
+        from tacthouse.scales import least_steps, steps_of
         from tacthouse.scores import sign_lengths
         from tacthouse.sounds import heard_all
 
@@ -25,6 +26,9 @@ class Examples(unittest.TestCase):
                          (True, ((None, 0, 1),)))
         self.assertEqual((even_rhythm(8, 3), content_of((8, (0, 3, 6))), check_entries((8, (0, 1, 4, 5)), ('entries', (1, 7)))),
                          ((8, (0, 2, 5)), (0, 1, 2, 0, 2, 1, 0), 'entries'))
+        self.assertEqual((least_steps(((-4, 4, -1, 0), (7, 0, -3, 0), (-5, 2, 2, -1))), steps_of((53, 84, 123, 149), (-1, 1, 0, 0))),
+                         (12, 31))
+        self.assertIs(least_steps(((1, 0, 0, 0),)) is None, True)
 
     def test_examples_of_the_readme(self):
         told = doctest.testfile(os.path.join(HERE, "README.md"), module_relative=False)

@@ -71,6 +71,19 @@ class Language(unittest.TestCase):
             "tacthouse.units": "unit_of(score,voice,delay) board_of(score,voice,delay) most_singers(score,song)",
             "tacthouse.distances": "pairs_of(score,song,number) is_clean(score,song,good,number)"
                                    " first_clash(score,song,good,number)",
+            "tacthouse.rounds": "are_all_clean(score,song,good) wanted_rests(score,song) least_clash(score,song,good)"
+                                " round_paper(score,song,good) check_round(score,song,good,paper)",
+            "tacthouse.ostinatos": "clean_shifts(score,voice,ostinato,good)"
+                                   " ostinato_clash(score,voice,ostinato,good,shift)",
+            "tacthouse.scales": "is_scale(thing) steps_of(scale,ratio) evens_out(scale,ratios) least_steps(ratios)"
+                                " scale_paper(ratios) check_scale(ratios,paper)",
+            "tacthouse.drift": "whole_drift(score,voice,table,scale) drift_range(score,voice,table,scale)"
+                               " drift_behind(score,voice,table,scale,number)",
+            "tacthouse.hands": "need_instrument(thing) least_price(score,voice,instrument)"
+                               " price_table(score,voice,instrument) place_at(score,voice,instrument,number)"
+                               " fingering(score,voice,instrument) is_fingering(score,voice,instrument,value)"
+                               " price_of(score,voice,instrument,fingering) hand_paper(score,voice,instrument)"
+                               " check_hand(score,voice,instrument,paper)",
         }
         seen = {module: text for module, _, text in language.sources()}
         for module in listed:
