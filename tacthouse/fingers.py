@@ -122,7 +122,7 @@ class Played:
                     found.append((sum(parts), near, far))
         return min(found)[1:]
 
-    def place(self, number):
+    def place_of(self, number):
         """The PLACE of the EVENT with a PITCH of this number, in one cheapest FINGERING; None if there is none.
 
         Whatever the number is, the same PLACES are chosen at the same joint: so all numbers are of one FINGERING.

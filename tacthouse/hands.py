@@ -34,7 +34,7 @@ def place_at(score, voice, instrument, number):
     played = Played(score, voice, instrument)
     if not is_from_to(number, 0, played.whole()[0] - 1):
         raise BadNumber(number)
-    return played.place(number)
+    return played.place_of(number)
 
 
 class Notes:

@@ -2,7 +2,7 @@
 
 from tacthouse.errors import BadVoice, TooMany
 from tacthouse.kinds import is_from_to
-from tacthouse.signs import check_signs, event_counts, lengths_of
+from tacthouse.signs import MOST_SIGNS, check_signs, event_counts, first_bad, lengths_of
 from tacthouse.varied import MOST_ASKED, asked_of, block_events, parts_of, rising, top_of
 
 MOST_UNFOLDED = 2000
@@ -14,6 +14,11 @@ def need_score(thing):
     if asked_of(thing) is None:
         raise TooMany(MOST_ASKED)
     return thing
+
+
+def is_score(signs):
+    """Whether a tuple of some things is a SCORE that asks for few enough VARIED SIGNS."""
+    return len(signs) <= MOST_SIGNS and first_bad(signs) is None and asked_of(signs) is not None
 
 
 def need_voice(score, voice):

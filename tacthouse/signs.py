@@ -113,16 +113,24 @@ def measure_of(sign, ahead):
     return measure
 
 
+def first_bad(signs):
+    """The number of the first thing in a tuple that cannot stand there as a SIGN, or None."""
+    ahead = []
+    for number, sign in enumerate(signs):
+        measure = measure_of(sign, ahead)
+        if measure is None:
+            return number
+        ahead.append(measure)
+    return None
+
+
 def check_signs(thing):
     """Refuses any value that is no tuple of SIGNS that read as EVENTS."""
     if not is_row(thing, 1, MOST_SIGNS):
         raise BadScore(None)
-    ahead = []
-    for number, sign in enumerate(thing):
-        measure = measure_of(sign, ahead)
-        if measure is None:
-            raise BadScore(number)
-        ahead.append(measure)
+    number = first_bad(thing)
+    if number is not None:
+        raise BadScore(number)
 
 
 def lengths_of(score):

@@ -8,13 +8,26 @@ from tacthouse.quotients import (NOUGHT, ONE, divided, is_above_nought, is_from_
 MOST_PAIRS = 40
 
 
+def bad_pair(pairs):
+    """The number of the first thing in a tuple that cannot stand there as a pair of a TEMPO, or None."""
+    for number, pair in enumerate(pairs):
+        if not is_tempo_pair(pair, number == len(pairs) - 1):
+            return number
+    return None
+
+
+def is_tempo(thing):
+    """Whether a value is a TEMPO."""
+    return is_row(thing, 1, MOST_PAIRS) and bad_pair(thing) is None
+
+
 def need_tempo(thing):
     """The value itself, if it is a TEMPO."""
     if not is_row(thing, 1, MOST_PAIRS):
         raise BadTempo("form")
-    for number, pair in enumerate(thing):
-        if not is_tempo_pair(pair, number == len(thing) - 1):
-            raise BadTempo(number)
+    number = bad_pair(thing)
+    if number is not None:
+        raise BadTempo(number)
     return thing
 
 
