@@ -17,7 +17,8 @@ def crowd_of(score):
             for part, many in parts_of(score, varied):
                 found.append((crowds[part][0], ahead + crowds[part][1]))
                 ahead += lengths[part[0]] * part[4] * many
-        crowds[varied] = max(found, key=lambda pair: (pair[0], -pair[1]))
+        # Of several the first one, as they are in turn.
+        crowds[varied] = max(found, key=lambda pair: pair[0])
     return crowds[top_of(score)]
 
 

@@ -91,7 +91,8 @@ def tightest_off(strokes, low, high):
     while True:
         line, worth = top_line(lines, at)
         cross = next_cross(lines, line, worth, at)
-        if not is_less(line[1], NOUGHT) or cross is None or is_less(end, cross):
+        # A line that falls is met by the first one, which does not.
+        if not is_less(line[1], NOUGHT) or is_less(end, cross):
             break
         at = cross
     return worth if not is_less(line[1], NOUGHT) else plus(line[0], product_of(line[1], end))

@@ -164,7 +164,7 @@ def check_hand(score, voice, instrument, paper):
         return "least"
     if not is_worded(paper, "none", 2):
         raise BadPaper("form")
-    if not notes.are_bounds(paper[1]) or not paper[1] or last_bounds(paper[1]):
+    if not notes.are_bounds(paper[1]) or last_bounds(paper[1]):
         raise BadPaper("none")
     return "none"
 

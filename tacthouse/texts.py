@@ -33,7 +33,7 @@ def read_score(text):
     """The SCORE whose text it is."""
     reader = Reader(text)
     signs = []
-    while not signs or reader.has_row():
+    while reader.has_row():
         signs.append(read_sign(reader))
         reader.end_row()
     return need_score(tuple(signs))
@@ -74,7 +74,7 @@ def read_tempo(text):
     """The TEMPO whose text it is."""
     reader = Reader(text)
     pairs = []
-    while not pairs or reader.has_row():
+    while reader.has_row():
         pairs.append(read_pair(reader))
         reader.end_row()
     return need_tempo(tuple(pairs))
@@ -148,7 +148,7 @@ def read_part(reader):
     if word != "class":
         return (word,) + tuple(numbers)
     lot = []
-    while reader.has_word() and reader.peek() not in ("&", "to"):
+    while reader.peek() not in ("&", "to"):
         lot.append(reader.number())
     return (word,) + tuple(numbers) + (tuple(lot),)
 

@@ -199,6 +199,16 @@ class Desks(Refusing, unittest.TestCase):
         desk.do(("tempo", many[19:]))
         desk.do(("behind", many))
         self.assertEqual(desk.tempo, tempo_behind(many[19:], many))
+        # 40 pairs, and 41.
+        two = (((1, 2), (1, 1)), (None, (2, 1)))
+        for many in (39, 40):
+            desk.do(("tempo", two))
+            deed = ("behind", tuple(((3, 7), (1 + at % 2, 1)) for at in range(many - 1)) + ((None, (3, 1)),))
+            if many == 39:
+                desk.do(deed)
+                self.assertEqual(len(desk.tempo), 40)
+            else:
+                self.cannot(desk, deed, "tempo")
         # One that is led is kept as it is told, not made plain.
         twice = (((1, 1), (2, 1)), (None, (2, 1)))
         desk.do(("tempo", twice))
@@ -425,6 +435,17 @@ class Desks(Refusing, unittest.TestCase):
                 with desk.trial():
                     desk.undo(3)
                 self.assertEqual(now(), later)
+            self.assertEqual(now(), middle)
+        self.assertEqual(now(), later)
+        # One object even within its own block, and again behind it.
+        with trial:
+            desk.undo()
+            middle = now()
+            with trial:
+                desk.undo()
+            self.assertEqual(now(), middle)
+            with trial:
+                desk.do(("put", B))
             self.assertEqual(now(), middle)
         self.assertEqual(now(), later)
         for _ in range(3):

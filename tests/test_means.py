@@ -183,6 +183,8 @@ class Means(Refusing, unittest.TestCase):
         self.assertEqual(round_table(score, 0, alone), ((4, None), (1, None)))
         self.assertEqual(check_mean(score, 0, alone, ("mean", (0,), ((0, 1), (3, 1)))), "mean")
         self.refuse("mean", score, 0, alone, ("mean", (0,), ((0, 1), (2, 1))))
+        # Not twice the same place, though all integers are there.
+        self.refuse("mean", score, 0, alone, ("mean", (0, 0), ((0, 1), (3, 1))))
 
     def test_changed_papers(self):
         kept = {True: 0, False: 0}

@@ -173,6 +173,13 @@ class Players(Refusing, unittest.TestCase):
         self.assertIs(can_share(score, ((0, 0, 3),) * 3), False)
         self.assertIs(can_share(score[:1] + (("again", 0, 3),), ((0, 0, 3),) * 3), True)
         self.assertIs(can_share(score[:1] + (("again", 0, 4),), ((0, 0, 3),) * 3), False)
+        # Where they come round behind some times ahead.
+        for state in states(((0, 0, 2),) * 3):
+            there = {state}
+            for many in range(1, 15):
+                there = {one for ahead in there for one in rests_behind(score[:1], ((0, 0, 2),) * 3, ahead)}
+                once = score[:1] + (("again", 0, many),)
+                self.assertEqual(rests_behind(once, ((0, 0, 2),) * 3, state), tuple(sorted(there)), (state, many))
         for many in range(1, 12):
             once = score[:1] + (("again", 0, many),)
             for players in (((0, 0, 2),) * 3, ((0, 0, 1), (0, 0, 3), (0, 0, 5)), ((0, 0, 1),) * 2, ((0, 0, 6), (0, 0, 1), (0, 0, 4))):

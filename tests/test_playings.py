@@ -211,6 +211,11 @@ class Playings(Refusing, unittest.TestCase):
                 if paper[0] == "off":
                     self.assertEqual(len(paper[1]), 3)
                     self.assertIn(at, paper[1])
+                    for more in range(8):
+                        lot = tuple(sorted({*paper[1], more}))
+                        if len(lot) == 4:
+                            self.refuse("off", score, 0, played, 10 ** 11, gait, ("off", lot))
+                    self.refuse("off", score, 0, played, 10 ** 11, gait, ("off", tuple(range(8))))
 
     def test_wrong_papers(self):
         score = (("block", (((0, 3), (1, 3), (2, 3)),)),)

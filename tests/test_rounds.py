@@ -238,6 +238,9 @@ class Rounds(Refusing, unittest.TestCase):
             self.refuse("clean", score, song, good, (word, boards[:at] + ((list(varied), board),) + boards[at + 1:]))
         self.refuse("clean", score, song, good, (word, boards + (((4, 0, False, False, 1), ((), (), ())),)))
         self.refuse("clean", score, song, good, (word, boards + ((top, ((), (), ())),)))
+        for odd in (boards[0][:1], boards[0] + (0,), list(boards[0]), boards[0] + boards[0]):
+            self.refuse("clean", score, song, good, (word, (odd,) + boards[1:]))
+            self.refuse("clean", score, song, good, (word, boards[1:] + (odd,)))
         self.refuse("clean", score, song, good, (word, ()))
 
     def test_wider_boards(self):

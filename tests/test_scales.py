@@ -3,9 +3,11 @@
 import itertools
 import unittest
 from fractions import Fraction
+from math import gcd
 
 from tacthouse.errors import BadPaper, BadRatio, BadScale
 from tacthouse.scales import check_scale, evens_out, is_scale, least_steps, scale_paper, steps_of
+from tacthouse.vectors import across, all_shortened, shortened, split_by, worth
 from tests import making
 from tests.refusing import NO_INTEGERS, ODD, Refusing
 
@@ -139,6 +141,37 @@ class Scales(Refusing, unittest.TestCase):
         self.assertEqual(least_steps(((1, 5, 0, 0), (2, 10, 0, 0), (-3, -15, 0, 0))), 5)
         self.assertIsNone(least_steps(((1, 5, 0, 0), (2, 5, 0, 0))))
         self.assertIsNone(least_steps(((3, 5, 0, 0), (0, 2, 0, 0), (0, 0, 0, 1), (0, 0, 1, 0))))
+
+    def test_short_vectors(self):
+        """So that what is told has small numbers: none is made shorter by another one alone, and they span the same."""
+        for start in range(300):
+            numbers = making.Numbers(start + 19)
+            rows = [tuple(numbers.below(2001) - 1000 for _ in range(4)) for _ in range(1 + numbers.below(3))]
+            if len(rows) == 3 and across(rows) == (0, 0, 0, 0):
+                continue
+            short = all_shortened(rows)
+            self.assertEqual(len(short), len(rows))
+            for at, one in enumerate(short):
+                self.not_shorter(one, short[:at] + short[at + 1:])
+            self.not_shorter(shortened((10 ** 6, -10 ** 5, 7, 10 ** 4), short), short)
+            if len(rows) == 3:
+                self.assertIn(across(short), (across(rows), tuple(-part for part in across(rows))))
+            self.assertLessEqual(max(worth(one, one) for one in short), max(worth(one, one) for one in rows))
+            # Worth 0 by a form all but one, which is worth the greatest common divisor.
+            form = tuple(numbers.below(9) - 4 for _ in range(4))
+            one, others = split_by(rows, form)
+            self.assertEqual([worth(other, form) for other in others], [0] * len(others))
+            self.assertEqual(0 if one is None else abs(worth(one, form)), gcd(*[worth(row, form) for row in rows]))
+
+    def not_shorter(self, one, others):
+        for other in others:
+            for sign in (1, -1):
+                trial = [left + sign * right for left, right in zip(one, other)]
+                self.assertGreaterEqual(worth(trial, trial), worth(one, one))
+
+    def test_numbers_that_are_told_are_small(self):
+        for ratios in (((-19, 1, 18, 14), (-4, -16, -17, 17)), ((-17, 18, 6, 0), (20, 6, 20, -3)), ((-17, 20, 4, 8), (-14, 12, -7, -15)), ((-19, -7, 13, -1),), ()):
+            self.assertLess(max(abs(part) for part in self.hold(ratios)[2]), 130)
 
     def test_wrong_papers_on_none(self):
         ratios = (OCTAVE, FIFTH)
