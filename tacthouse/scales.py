@@ -54,10 +54,9 @@ def does_even_out(scale, ratios):
 
 
 def evening(ratios):
-    """A SCALE that evens out RATIOS, with as few STEPS as can be, and a vector by which it is worth 1.
+    """A SCALE that evens out RATIOS, with as few STEPS as can be, and a vector; None, None if there is no such SCALE.
 
-    By this vector all else that gives each of the RATIOS 0 is worth as many times 1 as it has its STEPS. None, None if
-    there is no such SCALE.
+    Whatever gives each of the RATIOS 0 has as first number what it is worth by this vector, times these STEPS.
     """
     rest, used = [axis(number) for number in range(4)], []
     for ratio in ratios:
