@@ -1,7 +1,7 @@
 """Which rule between voices follows from which, and papers on that."""
 
 from tacthouse.errors import BadPaper, BadRule, BadSounds
-from tacthouse.kinds import is_from_to, is_row, is_worded
+from tacthouse.kinds import is_worded
 from tacthouse.lines import are_sounds
 from tacthouse.moments import Looker
 from tacthouse.pairings import Pairing

@@ -6,7 +6,7 @@ from fractions import Fraction
 from tacthouse.errors import (BadClocks, BadFraction, BadMarks, BadNumber, BadScore, BadTempo, BadVoices, TooMany)
 from tacthouse.marks import (begin_bar, begin_marks, clock_drift, first_apart, latest_mark, least_marks)
 from tests import making, plain
-from tests.refusing import NO_INTEGERS, ODD, Refusing
+from tests.refusing import ODD, Refusing
 from tests.test_sounds import MANY
 from tests.test_tempos import NO_FRACTIONS, STEADY, pair, tempo_of, worth
 

@@ -9,7 +9,7 @@ from tacthouse.units import board_of
 from tests import making, plain
 from tests.refusing import ODD, Refusing
 from tests.test_distances import clashes
-from tests.test_units import MANY_TIMES, SCORE, TOO_MANY, VERY, A, no_rounds, unit
+from tests.test_units import SCORE, TOO_MANY, VERY, A, no_rounds, unit
 
 GOOD = (0, 3, 4, 7, 8, 9)
 CALLS = ((are_all_clean, (GOOD,)), (wanted_rests, ()), (least_clash, (GOOD,)), (round_paper, (GOOD,)), (check_round, (GOOD, None)))
@@ -188,8 +188,7 @@ class Rounds(Refusing, unittest.TestCase):
         self.assertEqual(least_clash(VERY, (0, 3, 0), ()), (2, 8))
         self.assertEqual(least_clash(VERY, (0, 5, 0), ()), (1, 8))
         # Up by 2 for the second half.
-        two = VERY + (("up", 4, 2), ("then", 4, 5)) if 12 * MANY_TIMES <= 10 ** 40 else VERY[:4] + (("up", 3, 2), ("then", 3, 4))
-        half = sum(long for _, long in VERY[0][1][0]) * 10 ** 36
+        two, half = VERY[:4] + (("up", 3, 2), ("then", 3, 4)), 6 * 10 ** 36
         self.assertEqual(wanted_rests(two, (0, 6, 0)), (0, 10))
         self.assertEqual(least_clash(two, (0, 6, 0), (0,)), (1, half + 2))
         self.assertIs(are_all_clean(two, (0, 6, 0), (0, 10)), True)

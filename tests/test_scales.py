@@ -224,11 +224,10 @@ class Scales(Refusing, unittest.TestCase):
     def test_errors(self):
         for odd in ODD + NO_INTEGERS + (list(FIFTH), FIFTH[:3], FIFTH + (0,), (21, 0, 0, 0), (0, 0, 0, -21), (True, 0, 0, 0), (0, None, 0, 0), (0, "0", 0, 0), 3, (FIFTH,)):
             self.refused(BadRatio, odd, steps_of, TWELVE, odd)
-            if odd != ():
+            if odd not in ((), (FIFTH,)):
                 for call, rest in ((least_steps, ()), (scale_paper, ()), (check_scale, (None,))):
-                    self.refused(BadRatio, odd, call, *((odd,) + rest)) if odd != (FIFTH,) else None
-                if odd != (FIFTH,):
-                    self.refused(BadRatio, odd, evens_out, TWELVE, odd)
+                    self.refused(BadRatio, odd, call, odd, *rest)
+                self.refused(BadRatio, odd, evens_out, TWELVE, odd)
             for call, rest in ((least_steps, ()), (scale_paper, ()), (check_scale, (None,))):
                 self.refused(BadRatio, (FIFTH, odd), call, (FIFTH, odd), *rest)
         for odd in (list(THREE), THREE + THREE[:2], THREE * 2):
